@@ -1,0 +1,1 @@
+"""Anyshift: senders that share a line and begin whenever."""

@@ -1,0 +1,52 @@
+"""The interface: what stands in which file, with which names of arguments."""
+
+import ast
+import importlib
+import pathlib
+import unittest
+
+PACKAGE = pathlib.Path(__file__).resolve().parent.parent / "anyshift"
+
+FUNCTIONS = {
+    "patterns": {
+        "is_pattern": ["thing"], "sends": ["pattern", "offset", "tick"], "share": ["pattern"], "shortest": ["pattern"],
+        "turned": ["pattern", "by"], "matching": ["one", "other"],
+    },
+    "groups": {
+        "is_group": ["thing"], "span": ["group"], "is_offsets": ["group", "thing"],
+        "ticks_later": ["group", "offsets", "others"], "earliest": ["group", "offsets"], "classes": ["group"],
+    },
+    "counts": {
+        "heard": ["group", "offsets"], "counts": ["group", "offsets"], "meets": ["group", "offsets", "some"],
+        "fewest": ["group", "kind"], "greatest": ["group", "kind"], "average": ["group", "kind"],
+        "shows_fewest": ["group", "kind", "thing"],
+    },
+}
+
+
+class TestInterface(unittest.TestCase):
+    def test_functions_are_defined_in_their_files(self):
+        for name, functions in FUNCTIONS.items():
+            tree = ast.parse((PACKAGE / f"{name}.py").read_text())
+            found = {row.name: [each.arg for each in row.args.args] for row in tree.body
+                     if isinstance(row, ast.FunctionDef)}
+            for function, arguments in functions.items():
+                self.assertEqual(found.get(function), arguments, function)
+
+    def test_functions_can_be_imported(self):
+        for name, functions in FUNCTIONS.items():
+            module = importlib.import_module(f"anyshift.{name}")
+            for function in functions:
+                self.assertEqual(getattr(module, function).__module__, f"anyshift.{name}")
+
+    def test_errors_are_defined_in_their_file(self):
+        tree = ast.parse((PACKAGE / "errors.py").read_text())
+        found = {row.name: row for row in tree.body if isinstance(row, ast.ClassDef)}
+        self.assertEqual(len(found), 24)
+        for name, first in (("TooLong", "span"), ("TooMany", "many")):
+            init = [row for row in found[name].body if isinstance(row, ast.FunctionDef)][0]
+            self.assertEqual([each.arg for each in init.args.args], ["self", first, "limit"])
+
+
+if __name__ == "__main__":
+    unittest.main()
