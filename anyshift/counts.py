@@ -1,9 +1,9 @@
 """Counts: what is heard in the ticks of a span, and how often."""
 
 from anyshift.errors import NoKind, NoSome
-from anyshift.groups import check_group, check_offsets, check_span, classes, is_offsets, span
+from anyshift.groups import check_group, check_offsets, check_span, classes, is_offsets, periods, span
 from anyshift.patterns import sends_at
-from anyshift.values import fraction, is_integer, is_integer_from, is_set
+from anyshift.values import fraction, is_integer, is_integer_from, is_set, multiplied
 
 QUIET = -1
 COLLISION = -2
@@ -54,12 +54,15 @@ def check_kind(group, kind):
         raise NoKind("a kind of tick is -1, the number of a sender, or -2")
 
 
+def class_lines(group, ticks):
+    """Return a list of (line, offsets) for all classes: what is heard in so many ticks from 0 on."""
+    return [(line_heard(group, offsets, ticks), offsets) for offsets in classes(group)]
+
+
 def kind_rows(group, kind):
     """Return a list of (many, offsets) for all classes: how many ticks of the kind there are."""
     check_kind(group, kind)
-    choices = classes(group)
-    ticks = span(group)
-    return [(line_heard(group, offsets, ticks).count(kind), offsets) for offsets in choices]
+    return [(line.count(kind), offsets) for line, offsets in class_lines(group, span(group))]
 
 
 def fewest(group, kind):
@@ -76,9 +79,7 @@ def greatest(group, kind):
 def average(group, kind):
     """Return the mean number of ticks of the kind for all offsets, a fraction."""
     check_kind(group, kind)
-    bottom = 1
-    for period, _ in group:
-        bottom *= period
+    bottom = multiplied(periods(group))
     if kind == COLLISION:
         top = bottom - sum([chances(group, alone) for alone in range(QUIET, len(group))])
     else:

@@ -2,9 +2,9 @@
 
 from math import gcd, lcm
 
-from anyshift.errors import NoGroup, NoOffsets, TooLong, TooMany
+from anyshift.errors import NoGroup, NoOffsets, NoSender, TooLong, TooMany
 from anyshift.patterns import is_pattern
-from anyshift.values import is_integer_from
+from anyshift.values import is_integer_from, multiplied
 
 LEAST_SENDERS = 2
 MOST_SENDERS = 4
@@ -23,6 +23,13 @@ def check_group(group):
     """Raise NoGroup for what is none."""
     if not is_group(group):
         raise NoGroup("a group is a tuple of two to four patterns")
+
+
+def check_sender(group, who):
+    """Raise NoGroup for what is none, NoSender for what is no number of one of its patterns."""
+    check_group(group)
+    if not is_integer_from(who, 0, len(group) - 1):
+        raise NoSender("a sender is an integer from 0 to the number of patterns less 1")
 
 
 def periods(group):
@@ -63,9 +70,7 @@ def check_span(group):
 def check_size(group):
     """Raise NoGroup for what is none, TooLong or TooMany if it is too large to go through its classes."""
     check_span(group)
-    many = 1
-    for size in class_sizes(group):
-        many *= size
+    many = multiplied(class_sizes(group))
     if many > MOST_CLASSES:
         raise TooMany(many, MOST_CLASSES)
 
@@ -121,7 +126,12 @@ def class_sizes(group):
 def classes(group):
     """Return the ascending tuple of the offsets that are the earliest themselves."""
     check_size(group)
+    return tuple(tuples_below(class_sizes(group)))
+
+
+def tuples_below(sizes):
+    """Return the ascending list of all tuples with an integer from 0 to the size less 1 for each size."""
     rows = [()]
-    for size in class_sizes(group):
-        rows = [(*row, offset) for row in rows for offset in range(size)]
-    return tuple(rows)
+    for size in sizes:
+        rows = [(*row, number) for row in rows for number in range(size)]
+    return rows

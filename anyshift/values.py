@@ -1,4 +1,4 @@
-"""Integers, sets and fractions, as all other modules use them."""
+"""Integers, sets, fractions and products, as all other modules use them."""
 
 from math import gcd
 
@@ -26,3 +26,11 @@ def fraction(top, bottom):
     """Return top by bottom without a common factor; bottom is above 0."""
     common = gcd(top, bottom)
     return (top // common, bottom // common)
+
+
+def multiplied(numbers):
+    """Return the product of the numbers of a list."""
+    whole = 1
+    for number in numbers:
+        whole *= number
+    return whole

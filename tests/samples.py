@@ -32,6 +32,9 @@ SMALL_GROUPS = (
 SPAN_420 = ((60, (0, 7, 20)), (7, (0, 3)))
 SPAN_423 = ((9, (0, 2)), (47, (1, 40)))
 
+# The greatest span and the greatest number of classes, together; it is even and safe.
+SPAN_420_CLASSES_240 = ((60, tuple(range(0, 60, 2))), (60, tuple(range(0, 60, 3))), (28, (0, 1, 2, 3)))
+
 # The greatest number of classes that are gone through, and the least one above it.
 CLASSES_240 = ((60, (0, 1, 2)), (60, (5,)), (4, (0,)))
 CLASSES_242 = ((22, (0, 1)), (22, (0,)), (11, (4,)))
@@ -103,6 +106,11 @@ def no_offsets(group):
     return things
 
 
+def no_senders(group):
+    """Values of all kinds but numbers of senders of the group, made anew."""
+    return no_integers() + [-1, -2, len(group), len(group) + 1, 10 ** 12, -10 ** 12]
+
+
 def all_offsets(group):
     """All offsets of a group, ascending."""
     return list(product(*[range(period) for period, _ in group]))
@@ -133,6 +141,43 @@ def plain_heard(group, offsets):
         loud = [who for who, (period, slots) in enumerate(group) if (tick - offsets[who]) % period in slots]
         line.append(-1 if not loud else loud[0] if len(loud) == 1 else -2)
     return tuple(line)
+
+
+def plain_masks(group):
+    """For each pattern the ticks of a span in which it sends, as bits, for each offset."""
+    ticks = range(plain_span(group))
+    return [[sum(1 << tick for tick in ticks if (tick - offset) % period in slots) for offset in range(period)]
+            for period, slots in group]
+
+
+def plain_through(masks, offsets):
+    """For each sender the ticks in which it gets through, as bits."""
+    loud = [row[offset] for row, offset in zip(masks, offsets)]
+    found = []
+    for who, bits in enumerate(loud):
+        for other in loud[:who] + loud[who + 1:]:
+            bits &= ~other
+        found.append(bits)
+    return found
+
+
+def plain_safe(group):
+    """Whether everybody gets through with all offsets; the first one begins with offset 0, for time does not matter."""
+    masks = plain_masks(group)
+    choices = product([0], *[range(period) for period, _ in group[1:]])
+    return all(all(plain_through(masks, offsets)) for offsets in choices)
+
+
+def plain_even(group):
+    """Whether all counts are the same for all offsets; the first one begins with offset 0, for time does not matter."""
+    masks = plain_masks(group)
+    seen = set()
+    for offsets in product([0], *[range(period) for period, _ in group[1:]]):
+        loud = 0
+        for row, offset in zip(masks, offsets):
+            loud |= row[offset]
+        seen.add((loud.bit_count(), *[bits.bit_count() for bits in plain_through(masks, offsets)]))
+    return len(seen) == 1
 
 
 def plain_counts(group, offsets):

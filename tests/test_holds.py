@@ -5,8 +5,12 @@ from fractions import Fraction
 from itertools import permutations
 
 from anyshift.counts import average, counts, fewest, greatest, heard, meets
+from anyshift.evens import is_even
 from anyshift.groups import classes, earliest, span, ticks_later
+from anyshift.pairs import pair_meets
 from anyshift.patterns import turned
+from anyshift.shuts import is_safe
+from anyshift.waits import longest_wait
 from samples import SMALL_GROUPS, all_offsets, kinds, later
 
 
@@ -39,6 +43,7 @@ class TestHolds(unittest.TestCase):
         for group in SMALL_GROUPS:
             even = len({counts(group, offsets) for offsets in all_offsets(group)}) == 1
             self.assertEqual(fewest(group, -1)[0] == greatest(group, -1)[0], even)
+            self.assertIs(is_even(group), even)
             seen.add(even)
         self.assertEqual(seen, {True, False})
 
@@ -49,6 +54,10 @@ class TestHolds(unittest.TestCase):
                 for by in (1, -1, 5):
                     changed = group[:who] + (turned(pattern, by),) + group[who + 1:]
                     self.assertEqual(sorted(counts(changed, offsets) for offsets in classes(changed)), wanted)
+                    self.assertIs(is_even(changed), is_even(group))
+                    self.assertIs(is_safe(changed), is_safe(group))
+                    for each in range(len(group)):
+                        self.assertEqual(longest_wait(changed, each)[0], longest_wait(group, each)[0])
 
     def test_another_order(self):
         for group in SMALL_GROUPS:
@@ -58,6 +67,12 @@ class TestHolds(unittest.TestCase):
                 found = counts(tuple(group[who] for who in order), tuple(offsets[who] for who in order))
                 self.assertEqual((found[0], found[-1]), (first[0], first[-1]))
                 self.assertEqual([found[1 + at] for at in range(len(order))], [first[1 + who] for who in order])
+                changed = tuple(group[who] for who in order)
+                self.assertIs(is_even(changed), is_even(group))
+                self.assertIs(is_safe(changed), is_safe(group))
+                for at, who in enumerate(order):
+                    self.assertEqual(fewest(changed, at)[0], fewest(group, who)[0])
+                    self.assertEqual(longest_wait(changed, at)[0], longest_wait(group, who)[0])
 
     def test_one_sender_less(self):
         for group in SMALL_GROUPS:
@@ -77,6 +92,8 @@ class TestHolds(unittest.TestCase):
             if len(group) > 2:
                 continue
             most = max(meets(group, offsets, (0, 1)) for offsets in classes(group))
+            self.assertEqual(max(pair_meets(*group)), most)
+            self.assertEqual(max(pair_meets(*group[::-1])), most)
             for who in (0, 1):
                 self.assertEqual(fewest(group, who)[0] + most, meets(group, (0, 0), (who,)))
 

@@ -21,6 +21,10 @@ FUNCTIONS = {
         "fewest": ["group", "kind"], "greatest": ["group", "kind"], "average": ["group", "kind"],
         "shows_fewest": ["group", "kind", "thing"],
     },
+    "pairs": {"pair_meets": ["one", "other"], "sure_bound": ["group", "who"]},
+    "evens": {"is_even": ["group"], "uneven": ["group"], "even_with": ["shares"]},
+    "shuts": {"shut_out": ["group", "who"], "is_safe": ["group"], "addition": ["group", "period"]},
+    "waits": {"longest_wait": ["group", "who"], "stop_ticks": ["group", "offsets"], "last_stop": ["group"]},
 }
 
 
