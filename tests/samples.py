@@ -3,6 +3,9 @@
 from itertools import product
 
 from anyshift import errors
+from anyshift.lines import Line, Logged, Stopping, StoppingLogged
+
+LINES = (Line, Stopping, Logged, StoppingLogged)
 
 PATTERNS = (
     (2, (0,)), (2, (1,)), (3, (0, 2)), (4, (0, 1)), (4, (0, 2)), (4, (1, 3)), (5, (0, 1, 2, 3)), (6, (0, 2)),
@@ -62,6 +65,7 @@ def no_integers():
         None, True, False, "", "0", "4: 0 1\n", "x" * 2000, [], [0], [0, 1], (), (0,), (0, 0), (0, (0, 0)), (True,),
         {}, {0: 1}, {"a": [1, (None, False)]}, nested(20), tuple(range(4000)), [[]] * 4000, [(4, (0, 1)), (6, (0, 2))],
         errors.ShiftError(), errors.NoPattern("none"), errors.TooLong(421, 420), errors.TooMany(241, 240),
+        Line((4, (0, 1)), (6, (0, 2))), (Line((4, (0, 1)), (6, (0, 2))),), StoppingLogged((2, (0,)), (2, (1,)), (3, (0,))),
     ]
 
 
@@ -191,6 +195,41 @@ def kinds(group):
     return [-1, *range(len(group)), -2]
 
 
+def in_another_order(named):
+    """The same names and values, the last one first."""
+    return dict(reversed(list(named.items())))
+
+
+class Choices:
+    """Integers that look as if they were drawn, the same ones in each run."""
+
+    def __init__(self, seed):
+        self.state = seed
+
+    def below(self, limit):
+        """The next one, from 0 to limit - 1."""
+        self.state = (self.state * 6364136223846793005 + 1442695040888963407) % 2 ** 64
+        return (self.state >> 33) % limit
+
+    def one_of(self, things):
+        """The next one of a list."""
+        return things[self.below(len(things))]
+
+    def pattern(self, greatest):
+        """The next pattern of a period from 2 to the greatest."""
+        period = 2 + self.below(greatest - 1)
+        slots = [slot for slot in range(period) if self.below(3) == 0][:period - 1]
+        return (period, tuple(slots) or (self.below(period),))
+
+    def group(self, greatest, many):
+        """The next group of so many patterns."""
+        return tuple(self.pattern(greatest) for _ in range(many))
+
+    def offsets(self, group):
+        """The next offsets of the group."""
+        return tuple(self.below(period) for period, _ in group)
+
+
 class Calls:
     """Checks of calls, for a class of tests to be derived from."""
 
@@ -199,6 +238,8 @@ class Calls:
         before = repr(named)
         self.assertEqual(repr(function(*named.values())), repr(wanted), (function.__name__, named))
         self.assertEqual(repr(function(**named)), repr(wanted), (function.__name__, named))
+        if len(named) > 1:
+            self.assertEqual(repr(function(**in_another_order(named))), repr(wanted), (function.__name__, named))
         self.assertEqual(repr(named), before, function.__name__)
 
     def fails(self, error, function, **named):
@@ -208,7 +249,7 @@ class Calls:
             function(*named.values())
         self.assertIs(held.exception.__class__, error, (function.__name__, before))
         with self.assertRaises(error, msg=(function.__name__, before)):
-            function(**named)
+            function(**in_another_order(named))
         self.assertEqual(repr(named), before, function.__name__)
         return held.exception
 

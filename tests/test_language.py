@@ -1,4 +1,4 @@
-"""The rules of the language that can be seen at a glance: files, imports, sizes, characters, and a few words."""
+"""The rules of the language that can be seen at a glance: files, imports, sizes, characters, words, and classes."""
 
 import ast
 import pathlib
@@ -12,6 +12,7 @@ WORDS = {
     "range", "repr", "reversed", "set", "sorted", "str", "sum", "tuple", "zip", "property", "super", "ValueError", "TypeError",
 }
 BUILTINS = set(dir(__import__("builtins")))
+METHODS = {"__init__", "__eq__", "__repr__", "__len__", "__call__", "__iter__", "__getitem__", "__contains__"}
 
 
 class TestLanguage(unittest.TestCase):
@@ -64,6 +65,35 @@ class TestLanguage(unittest.TestCase):
             stored = {node.id for node in ast.walk(tree) if isinstance(node, ast.Name) and isinstance(node.ctx, ast.Store)}
             stored |= {node.arg for node in ast.walk(tree) if isinstance(node, ast.arg)}
             self.assertEqual(stored & (bound | BUILTINS), set(), name)
+
+    def test_classes(self):
+        for name, tree in self.trees():
+            self.assertNotIn("Meta", ast.unparse(tree), name)
+            for node in ast.walk(tree):
+                if isinstance(node, ast.ClassDef):
+                    methods = {row.name for row in node.body if isinstance(row, ast.FunctionDef)}
+                    self.assertEqual({each for each in methods if each.startswith("__")} - METHODS, set(), (name, node.name))
+                    self.assertEqual("__getitem__" in methods, "__iter__" in methods, (name, node.name))
+                    self.assertEqual(len(methods), len([row for row in node.body if isinstance(row, ast.FunctionDef)]))
+                    self.assertEqual(node.decorator_list, [])
+                if isinstance(node, ast.Attribute) and node.attr.startswith("__"):
+                    self.assertIn(node.attr, ("__class__", "__name__", "__init__"), (name, node.lineno))
+
+    def test_properties_change_nothing(self):
+        for name, tree in self.trees():
+            for node in ast.walk(tree):
+                if isinstance(node, ast.FunctionDef) and (node.decorator_list or node.name in METHODS - {"__init__", "__call__"}):
+                    stored = [each for each in ast.walk(node) if isinstance(each, (ast.Assign, ast.AugAssign, ast.Delete))]
+                    self.assertEqual(stored, [], (name, node.name))
+
+    def test_what_is_done_finally(self):
+        for name, tree in self.trees():
+            for node in ast.walk(tree):
+                if isinstance(node, ast.Try):
+                    self.assertEqual(node.handlers, [], name)
+                    for row in node.finalbody:
+                        self.assertIsInstance(row, ast.Assign, name)
+                        self.assertFalse([each for each in ast.walk(row) if isinstance(each, (ast.Call, ast.Subscript))], name)
 
 
 if __name__ == "__main__":
